@@ -1,0 +1,1 @@
+"""Strollhouse: where a stroller is who takes doors as often as their weights tell."""
