@@ -3,10 +3,11 @@ import itertools
 import unittest
 from fractions import Fraction
 
+from helping import FAR, NO_HOUSES, Case, narrow, wide
+
 from strollhouse.errors import NoCount, NoHouse, NoRoom, NoShares
 from strollhouse.houses import after, is_house, step, walked
 
-FAR = 10 ** 6000
 ONE_ROOM = [[5]]
 FORK = [[0, 1, 3], [2, 0, 2], [0, 0, 9]]
 EIGHT = [[(3 * one + 5 * other + one * other) % 10 for other in range(8)] for one in range(8)]
@@ -16,40 +17,6 @@ STEEP = [
     [9, 9, 9, 9, 9, 8, 0, 0], [9, 9, 9, 9, 9, 2, 0, 0], [9, 9, 9, 9, 7, 0, 0, 0], [9, 9, 9, 9, 5, 0, 0, 0],
 ]
 HOUSES = (ONE_ROOM, [[1]], [[9]], [[0, 1], [1, 0]], [[1, 0], [0, 9]], [[9, 9], [3, 6]], FORK, EIGHT, STEEP)
-
-NO_HOUSES = {
-    "no rows": [],
-    "one empty row": [[]],
-    "only empty rows": [[], []],
-    "nine rows": [[1] * 9 for room in range(9)],
-    "nine rows of eight": [[1] * 8 for room in range(9)],
-    "eight rows of nine": [[1] * 9 for room in range(8)],
-    "very many rows": [[1]] * 1000,
-    "a first row too long": [[1, 1, 1], [1, 1]],
-    "a last row too long": [[1, 1], [1, 1, 1]],
-    "a first row too short": [[1], [1, 1]],
-    "a last row too short": [[1, 1], [1]],
-    "an empty row": [[1, 1], []],
-    "two weights in one room": [[1, 1]],
-    "the only row nought": [[0]],
-    "a first row of noughts": [[0, 0], [1, 1]],
-    "a last row of noughts": [[1, 1], [0, 0]],
-    "a weight of -1": [[1, 1], [-1, 2]],
-    "weights that cancel out": [[1, 1], [-1, 1]],
-    "a first weight of -1": [[-1, 2], [1, 1]],
-    "a weight of 10": [[1, 1], [1, 10]],
-    "a first weight of 10": [[10]],
-    "a weight far beyond": [[1, FAR], [1, 1]],
-    "a weight far below": [[1, 1], [1, -FAR]],
-}
-
-
-def wide(part):
-    return Fraction(part[0], part[1])
-
-
-def narrow(number):
-    return (number.numerator, number.denominator)
 
 
 def walked_plainly(table, shares):
@@ -67,31 +34,6 @@ def after_plainly(table, start, steps):
 def some_shares(rooms):
     tops = [3 * room + 1 for room in range(rooms)]
     return [narrow(Fraction(top, sum(tops))) for top in tops]
-
-
-class Case(unittest.TestCase):
-    def refused(self, error, function, *handed):
-        before = copy.deepcopy(handed)
-        try:
-            answer = function(*handed)
-        except ValueError as refusal:
-            self.assertIs(type(refusal), error)
-        else:
-            self.fail(f"{function.__name__} answered {answer!r} in place of {error.__name__}")
-        self.assertTrue(handed == before, "what was handed in was changed")
-
-    def parts_told(self, answer, rooms):
-        self.assertIs(type(answer), list)
-        self.assertEqual(len(answer), rooms)
-        for part in answer:
-            self.part_told(part)
-
-    def part_told(self, part):
-        self.assertIs(type(part), tuple)
-        self.assertEqual([type(number) for number in part], [int, int])
-        self.assertEqual(part, narrow(wide(part)))
-        self.assertGreaterEqual(part[0], 0)
-        self.assertGreaterEqual(part[1], 1)
 
 
 class IsHouse(Case):

@@ -53,6 +53,16 @@ def imported_names(tree):
     return {alias.name for node in tree.body if isinstance(node, ast.ImportFrom) for alias in node.names}
 
 
+def called(node):
+    return node.func.id if isinstance(node, ast.Call) and isinstance(node.func, ast.Name) else None
+
+
+def places_to_walk(tree):
+    found = [node.iter for node in ast.walk(tree) if isinstance(node, (ast.For, ast.comprehension))]
+    takers = ("list", "tuple", "dict", "sorted", "sum", "any", "all", "enumerate", "zip")
+    return found + [node.args[0] for node in ast.walk(tree) if called(node) in takers and node.args]
+
+
 class Language(unittest.TestCase):
     def hold_each_file(self, hold):
         for path in sorted(PACKAGE.glob("*.py")):
@@ -137,6 +147,44 @@ class Language(unittest.TestCase):
             if isinstance(node, ast.Attribute):
                 self.assertNotIn(node.attr, FOREIGN_METHODS)
                 self.assertNotIn(node.attr, NOT_NAMES)
+
+    def test_forms_that_are_held_narrower(self):
+        self.hold_each_file(self.hold_forms_that_are_held_narrower)
+
+    def hold_forms_that_are_held_narrower(self, text, tree):
+        walked_at_once = places_to_walk(tree)
+        for node in ast.walk(tree):
+            where = (type(node).__name__, getattr(node, "lineno", None))
+            if isinstance(node, ast.Compare) and isinstance(node.ops[0], (ast.Is, ast.IsNot)):
+                self.assertIn(ast.unparse(node.comparators[0]), ("None", "True", "False"), where)
+            if isinstance(node, ast.BinOp) and isinstance(node.op, ast.Pow):
+                self.assertIn(ast.unparse(node.right), [str(exponent) for exponent in range(65)], where)
+            if called(node) in ("zip", "enumerate", "reversed", "range"):
+                self.assertIn(node, walked_at_once, where)
+            if called(node) == "set":
+                self.assertIn(node, [other.args[0] for other in ast.walk(tree) if called(other) in ("sorted", "len")])
+
+    def test_no_two_files_draw_from_one_another(self):
+        drawn = {}
+        for path in PACKAGE.glob("*.py"):
+            tree = ast.parse(path.read_text(encoding="utf-8"))
+            drawn[path.stem] = {node.module.split(".")[1] for node in tree.body if isinstance(node, ast.ImportFrom)}
+        done = set()
+        while len(done) < len(drawn):
+            ready = {name for name in drawn if name not in done and drawn[name] <= done}
+            self.assertTrue(ready, "some files draw from one another")
+            done |= ready
+
+    def test_names_are_drawn_from_the_file_that_defines_them(self):
+        self.hold_each_file(self.hold_names_are_drawn_from_the_file_that_defines_them)
+
+    def hold_names_are_drawn_from_the_file_that_defines_them(self, text, tree):
+        for node in tree.body:
+            if isinstance(node, ast.ImportFrom):
+                source = ast.parse((PACKAGE / (node.module.split(".")[1] + ".py")).read_text(encoding="utf-8"))
+                defined = [name for other in source.body for name in bound_names(other)]
+                for alias in node.names:
+                    self.assertIn(alias.name, defined)
 
 
 if __name__ == "__main__":
